@@ -24,7 +24,7 @@ def nodes(path):
 class Source(unittest.TestCase):
     def test_the_modules_are_there(self):
         names = [path.name for path in sources()]
-        for name in ("__init__.py", "errors.py", "rules.py", "growing.py"):
+        for name in ("__init__.py", "errors.py", "rules.py", "growing.py", "most.py", "images.py", "notes.py"):
             self.assertIn(name, names)
 
     def test_only_the_packages_own_modules_are_drawn_from(self):
